@@ -1,0 +1,1 @@
+"""Process trees that are wired by descriptors, and why they hang."""
