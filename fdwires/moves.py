@@ -134,13 +134,17 @@ def fewest_calls(table, goal):
     return count_calls(table, goal)
 
 
-def calls_between(table, goal):
-    """The least list of as few calls as possible that lead from a table to a goal."""
-    check_table(table)
-    check_table(goal)
-    many = count_calls(table, goal)
+def needed_calls(table, goal):
+    """The number of the fewest calls; raises an error if no calls lead to the goal."""
+    many = fewest_calls(table, goal)
     if many is None:
         raise NoCalls("no calls lead from the table to the goal")
+    return many
+
+
+def calls_between(table, goal):
+    """The least list of as few calls as possible that lead from a table to a goal."""
+    many = needed_calls(table, goal)
     calls = []
     ends = table
     for left in range(many, 0, -1):
@@ -152,11 +156,7 @@ def calls_between(table, goal):
 
 def next_calls(table, goal):
     """The ascending list of all calls with which as few calls as possible can begin."""
-    check_table(table)
-    check_table(goal)
-    many = count_calls(table, goal)
-    if many is None:
-        raise NoCalls("no calls lead from the table to the goal")
+    many = needed_calls(table, goal)
     return [call for call in possible_calls(table) if begins_well(table, goal, call, many)]
 
 

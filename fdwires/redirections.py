@@ -113,5 +113,5 @@ def parting_table(words, other_words):
 
 
 def needed_by_one(needs, other_needs):
-    """A number that is in only one of two different tuples of needs."""
-    return min(sorted(set(needs) ^ set(other_needs)))
+    """The least number that is in only one of two different tuples of needs."""
+    return sorted(set(needs) ^ set(other_needs))[0]
