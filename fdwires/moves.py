@@ -2,6 +2,7 @@
 
 from fdwires.checks import DESCRIPTORS, is_descriptor, is_list, is_tuple
 from fdwires.errors import InvalidCalls, NoCalls
+from fdwires.rings import ring_from
 from fdwires.tables import check_table, table_behind
 
 MOST_CALLS = 100
@@ -27,16 +28,6 @@ def ring_links(table, goal):
         if end is not None and wanted.count(end) == 1 and len(holders) == 1:
             links[number] = holders[0]
     return links
-
-
-def ring_from(links, start):
-    """The ring that begins with a number, () if it is in none."""
-    ring = [start]
-    number = links.get(start)
-    while number is not None and number != start:
-        ring.append(number)
-        number = links.get(number)
-    return () if number is None else tuple(ring)
 
 
 def find_rings(table, goal):

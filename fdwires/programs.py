@@ -1,7 +1,7 @@
 """Programs: which values are programs, and the processes that they have."""
 
 from fdwires.checks import is_integer, is_list, is_tuple
-from fdwires.errors import InvalidProcess, InvalidProgram
+from fdwires.errors import InvalidIndex, InvalidProcess, InvalidProgram
 from fdwires.steps import FIRST_KINDS, has_form, kinds_behind, suits
 
 MOST_STEPS = 60
@@ -67,11 +67,22 @@ def add_processes(found, process, body, place):
             children += 1
 
 
-def check_process(found, value):
-    """Raises an error if a value is none of these processes."""
+def is_process(found, value):
+    """Whether any value is one of the processes that are the keys of a dict."""
     # The items are looked at first, as True and 1.0 are equal to an integer, and a list cannot be looked up.
-    if not is_tuple(value) or not all([is_integer(item) for item in value]) or value not in found:
+    return is_tuple(value) and all([is_integer(item) for item in value]) and value in found
+
+
+def check_process(found, value):
+    """Raises an error if a value is none of the processes that are the keys of a dict."""
+    if not is_process(found, value):
         raise InvalidProcess("no process of the program")
+
+
+def check_index(body, value):
+    """Raises an error if a value is no integer from 0 to the number of the steps of a body."""
+    if not is_integer(value) or not 0 <= value <= len(body):
+        raise InvalidIndex("no step of the process, and not the place behind its steps")
 
 
 def processes_of(program):

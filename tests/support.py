@@ -36,6 +36,14 @@ class Unfriendly:
         raise RuntimeError("tested")
 
 
+# Values that are no process of a program whose only child, if any, has no children.
+NO_PROCESSES = (None, 0, True, "", "()", [], [0], {}, (3,), (-1,), (0, 0), (1,), (False,), (0.0,), ("0",), ((),), (None,),
+                ([],), (10 ** 30,), TupleKind(), TupleKind((0,)), (Unfriendly(),), Unfriendly())
+
+# Values that are no integer from 1 on.
+NO_CAPACITIES = (0, -1, -(10 ** 30), True, False, None, 1.0, "1", (), (1,), [], [1], {}, Unfriendly())
+
+
 def assert_error(case, kind, fields, function, *arguments, **named):
     """Fails unless the call raises an error of exactly this class with these fields."""
     with case.assertRaises(WireError) as caught:

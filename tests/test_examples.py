@@ -33,6 +33,46 @@ PROGRAMS = '''
 [[(), (0,)], True, 1, ((0,), 0)]
 '''
 
+TEXTS = '''
+>>> from fdwires.texts import format_program, listing, parse_program
+>>> program = [("pipe", 3, 4), ("fork", [("read", 3, None)]), ("wait",)]
+>>> [format_program(program), parse_program("write 1 5") == [("write", 1, 5)], listing(program)]
+['pipe 3 4 fork ( read 3 all ) wait', True, ['pipe 3 4', 'fork', '  read 3 all', 'wait']]
+'''
+
+ENDS = '''
+>>> from fdwires.ends import holders, pipes_of, readers_of, table_at, writers_of
+>>> program = [("pipe", 3, 4), ("fork", [("copy", 3, 0), ("read", 0, None)]), ("close", 3), ("write", 4, 5), ("wait",)]
+>>> [table_at(program, (0,), 1)[0], pipes_of(program), writers_of(program, (), 0), readers_of(program, (), 0)]
+[('pipe', (), 0, 'r'), [((), 0)], [()], [(0,)]]
+>>> holders(program, ("pipe", (), 0, "w"))
+[((), 4, 1, 5), ((0,), 4, 0, 2)]
+'''
+
+RUNS = '''
+>>> from fdwires.runs import able_after, after_schedule, final_states
+>>> program = [("pipe", 3, 4), ("fork", [("close", 4), ("read", 3, None)]), ("close", 3), ("write", 4, 1)]
+>>> [able_after(program, 1, [(), ()]), after_schedule(program, 1, [(), (), ()])]
+[[(), (0,)], ((('at', 3, 0), ('at', 0, 0)), (0,))]
+>>> final_states(program, 1)
+[((('over',), ('over',)), (0,))]
+>>> early = [("pipe", 3, 4), ("fork", [("close", 4), ("read", 3, 1)]), ("close", 3), ("write", 4, 2)]
+>>> [final_states(early, 1), final_states(early, 2)]
+[[((('broken',), ('over',)), (0,))], [((('broken',), ('over',)), (0,)), ((('over',), ('over',)), (1,))]]
+'''
+
+CALM = '''
+>>> from fdwires.calm import file_lengths, is_calm, last_state, moved_units, why_not_calm
+>>> relay = [("pipe", 3, 4), ("fork", [("close", 4), ("pass", 3, 1, None)]), ("close", 3), ("write", 4, 10 ** 30), ("close", 4), ("wait",)]
+>>> [is_calm(relay), last_state(relay, 1)[0], moved_units(relay, 1, (0,), 1) == 10 ** 30, file_lengths(relay, 7)["out"] == 10 ** 30]
+[True, (('over',), ('over',)), True, True]
+>>> two = [("open", 1, "f"), ("open", 2, "f"), ("write", 1, 5), ("write", 2, 3)]
+>>> [file_lengths(two, 1)["f"], file_lengths([("open", 1, "f"), ("copy", 1, 2), ("write", 1, 5), ("write", 2, 3)], 1)["f"]]
+[5, 8]
+>>> why_not_calm([("pipe", 3, 4), ("write", 4, 1), ("read", 3, 1)])
+((), 0, 'rest')
+'''
+
 
 class Examples(unittest.TestCase):
 
@@ -51,6 +91,18 @@ class Examples(unittest.TestCase):
 
     def test_programs(self):
         self.run_block("programs", PROGRAMS)
+
+    def test_texts(self):
+        self.run_block("texts", TEXTS)
+
+    def test_ends(self):
+        self.run_block("ends", ENDS)
+
+    def test_runs(self):
+        self.run_block("runs", RUNS)
+
+    def test_calm(self):
+        self.run_block("calm", CALM)
 
 
 if __name__ == "__main__":
