@@ -36,7 +36,7 @@ def is_name(value):
 def is_like(known, value):
     """Whether any value is equal to a known one of integers, strings and tuples, and has integers where that has them.
 
-    Only the known value leads into the depth, so this ends whatever the other one is.
+    Only the known value leads into the depth, so this ends whatever the other one is. Nothing is like None.
     """
     if is_tuple(known):
         if not is_tuple(value) or len(value) != len(known):

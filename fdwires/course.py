@@ -50,10 +50,10 @@ def units_ahead(wiring, capacity, state):
     flows = flows_ahead(wiring, places)
     links = reader_links(flows)
     limits = limits_outside(capacity, contents, flows, links)
-    for ring in rings_of_links(links):
-        if not can_turn(capacity, contents, flows, ring):
-            for at in ring:
-                limits[at] = 0
+    for at in links:
+        ring = ring_from(links, at)
+        if len(ring) > 0 and not can_turn(capacity, contents, flows, ring):
+            limits[at] = 0
     share_limits(capacity, contents, flows, links, limits)
     for at in limits:
         if limits[at] is None:
@@ -77,12 +77,6 @@ def reader_links(flows):
     """A dict from each process that moves units to a pipe to the process that takes units from this pipe, if any."""
     return {at: other for at in flows for other in flows
             if flows[at][1] is not None and flows[at][1] == flows[other][0]}
-
-
-def rings_of_links(links):
-    """The list of the rings of links, each told once."""
-    rings = [ring_from(links, at) for at in links]
-    return [ring for ring in rings if ring != () and ring[0] == min(ring)]
 
 
 def limits_outside(capacity, contents, flows, links):

@@ -24,7 +24,7 @@ def checked_end(wiring, process, index, number):
 
 def table_at(program, process, index):
     """The list of the ten ends, or None, that a process has ahead of the step with an index, or behind all steps."""
-    return list(checked_table(wiring_of(program), process, index))
+    return checked_table(wiring_of(program), process, index)
 
 
 def pipes_of(program):
@@ -44,7 +44,7 @@ def holders(program, end):
     found = []
     for process, tables in zip(wiring.processes, wiring.tables):
         for number in range(DESCRIPTORS):
-            stands = [table[number] is not None and is_like(table[number], end) for table in tables]
+            stands = [is_like(table[number], end) for table in tables]
             found.extend([(process, number, first, last) for first, last in stretches(stands)])
     return found
 

@@ -112,7 +112,7 @@ def parsed_part(part, words, at):
     if part == "units or all" and word == "all":
         return None
     number = parsed_number(word)
-    if part == "name" or number is None or not is_part(part, number):
+    if number is None or not is_part(part, number):
         raise InvalidText(at)
     return number
 

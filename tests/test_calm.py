@@ -388,6 +388,11 @@ class Rings(Calm):
         for capacity in (1, 2, 5, BIG):
             self.assert_endless(program, capacity, ((), (0,), (1,)))
 
+    def test_three_processes_in_the_other_direction(self):
+        program = [("pipe", 3, 4), ("pipe", 5, 6), ("pipe", 7, 8), ("fork", [("pass", 5, 4, None)]), ("fork", [("pass", 7, 6, None)]),
+                   ("write", 8, 1), ("pass", 3, 8, None)]
+        self.assert_endless(program, 1, ((), (0,), (1,)))
+
     def test_other_processes_are_not_in_the_ring(self):
         program = [("pipe", 3, 4), ("pipe", 5, 6), ("fork", [("write", 1, 1)]), ("fork", [("fork", [("pass", 5, 4, None)]), ("wait",)]),
                    ("fork", [("write", 6, 1), ("pass", 3, 6, None)]), ("wait",)]

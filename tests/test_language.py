@@ -124,6 +124,19 @@ class Language(unittest.TestCase):
             elif isinstance(node, ast.Attribute):
                 self.assertNotIn(node.attr, NAMES_NOT_USED, place)
 
+    def test_local_names_are_not_those_of_the_file(self):
+        for name, tree in trees():
+            imported = {alias.name for node in tree.body if isinstance(node, ast.ImportFrom) for alias in node.names}
+            read = {node.id for node in ast.walk(tree) if isinstance(node, ast.Name) and isinstance(node.ctx, ast.Load)}
+            self.assertLessEqual(imported, read, name)
+            defined = {node.name for node in tree.body if isinstance(node, (ast.FunctionDef, ast.ClassDef))}
+            for node in ast.walk(tree):
+                if isinstance(node, ast.FunctionDef):
+                    local = {inner.arg for inner in ast.walk(node) if isinstance(inner, ast.arg)}
+                    local |= {inner.id for inner in ast.walk(node) if isinstance(inner, ast.Name)
+                              and isinstance(inner.ctx, ast.Store)}
+                    self.assertEqual(set(), local & (imported | defined), (name, node.name))
+
     def test_methods_are_known(self):
         own = {node.name for _, node in all_nodes() if isinstance(node, ast.FunctionDef)}
         for place, node in all_nodes():
