@@ -3,6 +3,7 @@
 from fdwires.errors import InvalidCapacity
 
 DESCRIPTORS = 10
+DIGITS = "0123456789"
 MOST_LETTERS = 8
 
 

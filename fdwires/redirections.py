@@ -1,11 +1,10 @@
 """Redirections: what lists of them do to every table, and which lists do the same."""
 
-from fdwires.checks import DESCRIPTORS, is_list, is_name
+from fdwires.checks import DESCRIPTORS, DIGITS, is_list, is_name
 from fdwires.errors import FailingWords, InvalidRedirection
 from fdwires.tables import check_table, table_behind
 
 MOST_WORDS = 40
-DIGITS = "0123456789"
 # Ten different ends, so that a table of them shows for each number where its end comes from.
 DIFFERENT_ENDS = ("a", "b", "c", "d", "e", "f", "g", "h", "i", "j")
 

@@ -1,11 +1,10 @@
 """Texts: programs as strings of words, and as listings."""
 
-from fdwires.checks import is_name
+from fdwires.checks import DIGITS, is_name
 from fdwires.errors import InvalidText
 from fdwires.programs import check_program
 from fdwires.steps import FORMS, is_part
 
-DIGITS = "0123456789"
 # As many digits as the greatest amount has.
 MOST_DIGITS = 31
 
