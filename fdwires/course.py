@@ -121,7 +121,7 @@ def share_limits(capacity, contents, flows, links, limits):
     reader and what the pipe has space for. The least limit spreads by one link in each turn. Where units can turn
     round, all limits are reached: if no process could go on, each would wait for the next one of an empty or full ring.
     """
-    for _ in limits:
+    for _ in range(len(limits)):
         for writer, reader in links.items():
             many = contents[flows[writer][1]]
             limits[reader] = lesser(limits[reader], raised(limits[writer], many))

@@ -15,6 +15,9 @@ BUILTINS = set("""len range enumerate zip min max sum abs sorted reversed int st
 LIBRARY = {"heapq", "math", "itertools", "collections"}
 NODES_NOT_USED = (ast.AsyncFor, ast.AsyncFunctionDef, ast.AsyncWith, ast.Await, ast.Import, ast.Div, ast.MatMult,
                   ast.GeneratorExp, ast.Global)
+# What a loop can go over by another name of it, and the methods that modify what they are called on.
+VIEWS = {"enumerate", "zip", "reversed", "items", "keys", "values"}
+MODIFYING = {"append", "clear", "extend", "insert", "pop", "remove", "reverse", "setdefault", "update", "sort", "add", "discard"}
 DECORATORS = {"property", "staticmethod", "classmethod"}
 NAMES_NOT_USED = set("""register mro elements open input law version_info with_traceback add_note eval exec exit globals
     locals vars id help dir compile""".split())
@@ -36,6 +39,47 @@ def trees():
 
 def all_nodes():
     return [(f"{name}:{getattr(node, 'lineno', 0)}", node) for name, tree in trees() for node in ast.walk(tree)]
+
+
+def looped(node):
+    """The texts of the names, attributes and items that a loop goes over if this stands behind its in."""
+    if isinstance(node, (ast.Name, ast.Attribute, ast.Subscript)):
+        return [ast.unparse(node)]
+    if isinstance(node, ast.Call) and isinstance(node.func, ast.Name) and node.func.id in VIEWS:
+        return [name for inner in node.args for name in looped(inner)]
+    if isinstance(node, ast.Call) and isinstance(node.func, ast.Attribute) and node.func.attr in VIEWS:
+        return looped(node.func.value)
+    if isinstance(node, ast.IfExp):
+        return looped(node.body) + looped(node.orelse)
+    if isinstance(node, ast.BoolOp):
+        return [name for inner in node.values for name in looped(inner)]
+    return []
+
+
+def modified(node):
+    """The texts of the values of which a statement or an expression changes an item, or which it changes by a method."""
+    if isinstance(node, ast.Subscript) and isinstance(node.ctx, (ast.Store, ast.Del)):
+        return [ast.unparse(node.value)]
+    if isinstance(node, ast.Call) and isinstance(node.func, ast.Attribute) and node.func.attr in MODIFYING:
+        return [ast.unparse(node.func.value)]
+    if isinstance(node, ast.AugAssign) and isinstance(node.target, (ast.Name, ast.Attribute)):
+        return [ast.unparse(node.target)]
+    return []
+
+
+def changing_loops(tree):
+    """The pairs of a line and a text of the loops and comprehensions that change what they go over."""
+    found = []
+    for node in ast.walk(tree):
+        if isinstance(node, ast.For):
+            heads, rows = [node.iter], node.body
+        elif isinstance(node, (ast.ListComp, ast.SetComp, ast.DictComp, ast.GeneratorExp)):
+            heads, rows = [part.iter for part in node.generators], [node]
+        else:
+            continue
+        changed = {name for row in rows for inner in ast.walk(row) for name in modified(inner)}
+        found += [(node.lineno, name) for head in heads for name in looped(head) if name in changed]
+    return found
 
 
 class Language(unittest.TestCase):
@@ -142,6 +186,25 @@ class Language(unittest.TestCase):
         for place, node in all_nodes():
             if isinstance(node, ast.Call) and isinstance(node.func, ast.Attribute):
                 self.assertIn(node.func.attr, METHODS | own, place)
+
+    def test_loops_leave_what_they_go_over(self):
+        for name, tree in trees():
+            self.assertEqual([], changing_loops(tree), name)
+
+    def test_loops_that_change_what_they_go_over_are_found(self):
+        heads = ("for k in xs: ", "for k, x in enumerate(xs): ", "for x, y in zip(ys, xs): ", "for x in reversed(xs): ",
+                 "for k, x in xs.items(): ", "for x in xs.values(): ", "for x in xs if ys else zs: ", "for x in ys or xs: ")
+        rows = ("xs[0] = 1", "xs[0] += 1", "del xs[0]", "xs.append(1)", "xs[0], b = 1, 2", "xs[1:2] = []", "xs += [1]", "box[xs.pop()] = 1")
+        for head in heads:
+            for row in rows:
+                self.assertEqual([(1, "xs")], changing_loops(ast.parse(head + row)), head + row)
+            deep = head + "\n    while ys:\n        for _ in zs:\n            xs[a][b], xs[k] = 1, 2"
+            self.assertEqual([(1, "xs")], changing_loops(ast.parse(deep)))
+        self.assertEqual([(1, "xs")], changing_loops(ast.parse("[xs.pop() for x in xs]")))
+        self.assertEqual([(1, "box.rows")], changing_loops(ast.parse("for x in box.rows: box.rows[x] = 1")))
+        for text in ("for x in list(xs): xs[0] = 1", "for x in range(len(xs)): xs[x] = 1", "for x in xs: ys[xs[0]] = xs[1]",
+                     "for x in ys: zs[0] = 1\nys[0] = 1", "[ys.get(x) for x in xs]", "for x in xs: xs[0].n = 1"):
+            self.assertEqual([], changing_loops(ast.parse(text)), text)
 
     def test_words(self):
         for name, text in files():
