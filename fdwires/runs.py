@@ -2,31 +2,17 @@
 
 from fdwires.checks import is_like, is_list
 from fdwires.errors import NotPossible, TooLarge
-from fdwires.programs import is_process
-from fdwires.states import able_in, first_state, state_behind
+from fdwires.states import able_in, first_state, state_behind, states_along
 from fdwires.wiring import wiring_for
 
 MOST_STATES = 4000
-
-
-def states_along(wiring, capacity, items):
-    """The states at first and behind each item of a list, up to the first item that is no process that can act."""
-    states = [first_state(wiring)]
-    for item in items:
-        if not is_process(wiring.order, item):
-            return states
-        state = state_behind(wiring, capacity, states[-1], wiring.order[item])
-        if state is None:
-            return states
-        states.append(state)
-    return states
 
 
 def checked_states(wiring, capacity, schedule):
     """The states at first and behind each item of a schedule; raises an error if there is no schedule."""
     if not is_list(schedule):
         raise NotPossible(None)
-    states = states_along(wiring, capacity, schedule)
+    states = states_along(wiring, capacity, first_state(wiring), schedule)
     if len(states) <= len(schedule):
         raise NotPossible(len(states) - 1)
     return states
@@ -35,7 +21,9 @@ def checked_states(wiring, capacity, schedule):
 def is_schedule(program, capacity, value):
     """Whether any value is a schedule of a program."""
     wiring = wiring_for(program, capacity)
-    return is_list(value) and len(states_along(wiring, capacity, value)) == len(value) + 1
+    if not is_list(value):
+        return False
+    return len(states_along(wiring, capacity, first_state(wiring), value)) == len(value) + 1
 
 
 def after_schedule(program, capacity, schedule):

@@ -3,6 +3,8 @@
 Processes and pipes are given by their numbers in the wiring.
 """
 
+from fdwires.programs import is_process
+
 
 def first_state(wiring):
     """The state with which each run begins."""
@@ -103,3 +105,16 @@ def able_in(wiring, capacity, state):
     """The ascending list of the processes that can act."""
     return [process for at, process in enumerate(wiring.processes)
             if state_behind(wiring, capacity, state, at) is not None]
+
+
+def states_along(wiring, capacity, state, items):
+    """A state and those behind each of some items, up to the first item that is no process that can act."""
+    states = [state]
+    for item in items:
+        if not is_process(wiring.order, item):
+            return states
+        state = state_behind(wiring, capacity, state, wiring.order[item])
+        if state is None:
+            return states
+        states.append(state)
+    return states

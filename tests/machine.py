@@ -1,5 +1,7 @@
 """A second way to run programs: each process has its own table, as a system would have it, and moves unit by unit."""
 
+import itertools
+
 FIRST = [("file", (), -3, "in"), ("file", (), -2, "out"), ("file", (), -1, "err")] + [None] * 7
 
 
@@ -212,6 +214,31 @@ def drawn_run(program, capacity, chance, most):
             break
         schedule.append(name)
     return machine, schedule
+
+
+def waits_in(machine):
+    """A dict from the running processes of a machine that cannot go on to the ascending lists of those they wait for."""
+    running = [name for name in machine.names if name in machine.tasks and machine.tasks[name].word == "at"]
+    return {name: sorted(waited_for(machine, running, machine.tasks[name])) for name in running}
+
+
+def waited_for(machine, running, task):
+    word, *rest = task.body[task.index]
+    if word == "wait":
+        return [other for other in running if len(other) == len(task.name) + 1 and other[:-1] == task.name]
+    source = task.table[rest[0]] if word in ("read", "pass") else None
+    if source is not None and machine.units[source[1:3]] == 0:
+        return [other for other in running if source[:3] + ("w",) in machine.tasks[other].table]
+    target = task.table[rest[-2]]
+    reader = [use[0] for use in all_uses(machine.tasks[()].body) if use[2] == "reads" and use[3] == target[:3] + ("r",)][0]
+    # Whoever runs and is the reader or one of those from which it descends.
+    return [max([other for other in running if reader[:len(other)] == other], key=len)]
+
+
+def all_rings(links):
+    """The list of all lists of different processes each of which waits for the next one, and the last for the first."""
+    return [list(ring) for many in range(1, len(links) + 1) for ring in itertools.permutations(links, many)
+            if all(ring[(at + 1) % many] in links[ring[at]] for at in range(many))]
 
 
 def search(program, capacity, most):

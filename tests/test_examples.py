@@ -73,6 +73,52 @@ CALM = '''
 ((), 0, 'rest')
 '''
 
+HANGS = '''
+>>> from fdwires.hangs import hangs, ring_in, safe_capacity, stuck, waits_for
+>>> own = [("pipe", 3, 4), ("write", 4, 2), ("read", 3, None)]
+>>> [hangs(own, 1), stuck(own, 1), stuck(own, 2), waits_for(own, 2, ()), ring_in(own, 2), safe_capacity(own)]
+[True, [((), 1)], [((), 2)], [()], [()], None]
+>>> fixed = [("pipe", 3, 4), ("write", 4, 2), ("close", 4), ("read", 3, None)]
+>>> [hangs(fixed, 1), hangs(fixed, 2), safe_capacity(fixed)]
+[True, False, 2]
+>>> idle = [("pipe", 3, 4), ("fork", [("wait",), ("read", 3, None)]), ("close", 3), ("close", 4), ("wait",)]
+>>> [stuck(idle, 1), waits_for(idle, 1, ()), ring_in(idle, 1)]
+[[((), 4), ((0,), 1)], [(0,)], [(0,)]]
+'''
+
+CURES = '''
+>>> from fdwires.cures import dead_places, fewest_closes, needed_places, with_closes
+>>> own = [("pipe", 3, 4), ("write", 4, 2), ("read", 3, None)]
+>>> [dead_places(own), fewest_closes(own, 2), with_closes(own, [((), 2, 4)])]
+[[((), 2, 4)], [((), 2, 4)], [('pipe', 3, 4), ('write', 4, 2), ('close', 4), ('read', 3, None)]]
+>>> program = [("pipe", 3, 4), ("fork", [("read", 3, None)]), ("write", 4, 5), ("wait",)]
+>>> [dead_places(program), needed_places(program, 9)]
+[[((), 3, 4), ((0,), 0, 4)], [((), 3, 4), ((0,), 0, 4)]]
+'''
+
+SHELL = '''
+>>> from fdwires.shell import commands_of, compiled, head_fates
+>>> from fdwires.calm import file_lengths, is_calm
+>>> line = "gen 5 | cat 2>&1 1>f ; gen 2 1>g 2>&1"
+>>> [commands_of(line), is_calm(compiled(line)), file_lengths(compiled(line), 1)]
+[[[('gen', 5, []), ('cat', None, ['2>&1', '1>f'])], [('gen', 2, ['1>g', '2>&1'])]], True, {'err': 0, 'f': 5, 'g': 2, 'in': 0, 'out': 0}]
+>>> [head_fates(6, 3, 2), head_fates(5, 3, 2), head_fates(3, 3, 2)]
+[('broken',), ('broken', 'over'), ('over',)]
+'''
+
+LIVE = '''
+>>> from fdwires.live import CalmCountingSystem, System
+>>> program = [("pipe", 3, 4), ("fork", [("close", 4), ("read", 3, None)]), ("close", 3), ("write", 4, 1)]
+>>> system = System(program, 1)
+>>> [system.act(()), system.go_on(()), system.state, system.able, system.tried((0,), (0,))[0]]
+[1, 3, ((('over',), ('at', 0, 0)), (1,)), [(0,)], (('over',), ('at', 1, 1))]
+>>> [system.undo(), system.state[0], len(system)]
+[None, (('at', 1, 0), ('new',)), 1]
+>>> other = CalmCountingSystem(program, 1)
+>>> [other.finish(), other.counts, other.described()]
+[7, {(): 4, (0,): 3}, ['processes 2', 'running 0', 'actions 7']]
+'''
+
 
 class Examples(unittest.TestCase):
 
@@ -103,6 +149,18 @@ class Examples(unittest.TestCase):
 
     def test_calm(self):
         self.run_block("calm", CALM)
+
+    def test_hangs(self):
+        self.run_block("hangs", HANGS)
+
+    def test_cures(self):
+        self.run_block("cures", CURES)
+
+    def test_shell(self):
+        self.run_block("shell", SHELL)
+
+    def test_live(self):
+        self.run_block("live", LIVE)
 
 
 if __name__ == "__main__":

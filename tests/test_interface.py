@@ -58,6 +58,40 @@ FUNCTIONS = {
         "positions": ["program", "capacity"],
         "file_lengths": ["program", "capacity"],
     },
+    "hangs": {
+        "hangs": ["program", "capacity"],
+        "is_ring": ["program", "capacity", "value"],
+        "stuck": ["program", "capacity"],
+        "waits_for": ["program", "capacity", "process"],
+        "ring_in": ["program", "capacity"],
+        "safe_capacity": ["program"],
+    },
+    "cures": {
+        "dead_places": ["program"],
+        "needed_places": ["program", "capacity"],
+        "fewest_closes": ["program", "capacity"],
+        "with_closes": ["program", "closes"],
+        "tidy": ["program"],
+        "can_cure": ["program", "capacity"],
+        "is_cure": ["program", "capacity", "value"],
+    },
+    "shell": {
+        "compiled": ["line"],
+        "commands_of": ["line"],
+        "head_fates": ["written", "taken", "capacity"],
+    },
+}
+
+# The methods of the class System, with their parameters; a star stands before those that are passed by position.
+METHODS = {
+    "act": ["process"],
+    "go_on": ["process"],
+    "finish": [],
+    "undo": [],
+    "tried": ["*processes"],
+    "table": ["process"],
+    "twin": [],
+    "described": [],
 }
 
 # Correct arguments for each name of a parameter.
@@ -80,6 +114,10 @@ ARGUMENTS = {
     "other_number": 1,
     "capacity": 2,
     "schedule": [(), (), (0,)],
+    "closes": [((), 1, 4), ((0,), 2, 6)],
+    "line": "gen 5 | cat 1>f",
+    "written": 5,
+    "taken": 3,
     "state": ((("at", 2, 0), ("at", 1, 0), ("over",)), (0, 0)),
 }
 
@@ -122,6 +160,19 @@ class Interface(unittest.TestCase):
                 first.clear()
             self.assertEqual(shown, repr(whole(getattr(module, name)(*arguments))), name)
             self.assertEqual(before, repr(ARGUMENTS), name)
+
+    def test_live_systems(self):
+        module = importlib.import_module("fdwires.live")
+        for name, bases in (("System", ["object"]), ("CalmSystem", ["System"]), ("CountingSystem", ["System"]),
+                            ("CalmCountingSystem", ["CalmSystem", "CountingSystem"])):
+            kind = getattr(module, name)
+            self.assertEqual("fdwires.live", kind.__module__)
+            self.assertEqual(bases, sorted(base.__name__ for base in kind.__bases__))
+            self.assertEqual(["program", "capacity"], list(inspect.signature(kind).parameters))
+        for name, parameters in METHODS.items():
+            method = vars(module.System)[name]
+            found = [str(parameter) for parameter in inspect.signature(method).parameters.values()]
+            self.assertEqual(["self"] + parameters, found, name)
 
 
 if __name__ == "__main__":
