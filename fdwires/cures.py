@@ -14,9 +14,10 @@ MOST_TRIED = 8
 
 
 class Cases:
-    """A calm program and its places, with the capacity of its runs, which are to have ends.
+    """A calm program and its places, with the capacity of its runs; raises an error if one of them has no end.
 
-    hung tells whether it hangs as it is, and hopeless whether it hangs with all closes.
+    hung tells whether it hangs as it is, and hopeless whether it hangs with all closes. Where neither run goes on for
+    ever, none with some of the closes does.
     """
 
     def __init__(self, program, capacity):
@@ -36,6 +37,7 @@ class Cases:
         """The ascending list of the needed places; raises an error if there is no cure."""
         if self.hopeless:
             raise NotCurable("the program hangs with all closes")
+        # Closes never make a run worse.
         if not self.hung:
             return []
         return [place for place in self.places if self.hangs_with([other for other in self.places if other != place])]
@@ -87,7 +89,7 @@ def fewest_closes(program, capacity):
     """The least one of the cures of a calm program with as few closes as possible."""
     cases = Cases(program, capacity)
     needed = cases.needed()
-    if not cases.hung or not cases.hangs_with(needed):
+    if not cases.hangs_with(needed):
         return needed
     others = [place for place in cases.places if place not in needed]
     if len(others) > MOST_TRIED:

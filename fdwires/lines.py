@@ -60,7 +60,7 @@ def command_at(words, at):
     if word not in WITH_AMOUNT:
         raise InvalidText(at)
     amount = parsed_number(word_at(words, at + 1))
-    if amount is None or not is_part("units", amount):
+    if not is_part("units", amount):
         raise InvalidText(at + 1)
     return Command(at, word, amount, redirections_at(words, at + 2))
 

@@ -14,7 +14,7 @@ WRITING = 5
 
 def commands_of(line):
     """The list of the pipelines of a line, each a list of tuples of a word, an amount or None, and redirections."""
-    return [[(command.word, command.amount, list(command.redirections)) for command in commands]
+    return [[(command.word, command.amount, command.redirections) for command in commands]
             for commands in pipelines_of(line)]
 
 

@@ -142,6 +142,7 @@ PLACES = [
     # Only writing ends of pipes are dead.
     ([("open", 4, "f"), ("wait",), ("pipe", 4, 5), ("write", 5, 1), ("wait",)], [(A, 4, 5)]),
     ([("pipe", 4, 3), ("wait",)], [(A, 1, 3)]),
+    ([("open", 4, "w"), ("open", 5, "pipe"), ("open", 6, "r"), ("wait",)], []),
     # A number gets an end several times.
     (chain(("write", 4, 1), ("open", 4, "f"), ("wait",), ("pipe", 3, 4), ("wait",)), [(A, 2, 4), (A, 5, 4)]),
     (chain(("close", 4), ("wait",), ("pipe", 3, 4), ("write", 4, 1), ("close", 4)), [(A, 1, 4), (A, 5, 4)]),
@@ -434,6 +435,26 @@ class Needed(Cures):
         self.assertIs(True, is_cure(either, 1, [((0,), 2, 4)]))
         self.assertIs(False, is_cure(either, 1, [((), 3, 4), ((0,), 0, 6)]))
 
+    def test_one_close_or_two_others(self):
+        # The main process has two numbers for what the child waits for, and the child has one.
+        program = EITHER[:4] + [("copy", 6, 7), ("write", 6, 1), ("write", 7, 1), ("read", 3, None)]
+        self.assertEqual([((), 3, 4), ((), 6, 6), ((), 7, 7), ((0,), 0, 6), ((0,), 2, 4)], dead_places(program))
+        self.assertEqual(([], [((0,), 2, 4)]), (needed_places(program, 2), fewest_closes(program, 2)))
+        for closes, cures in (([((), 6, 6)], False), ([((), 7, 7)], False), ([((), 6, 6), ((), 7, 7)], True), ([((0,), 2, 4)], True)):
+            self.assertIs(cures, is_cure(program, 2, closes))
+        self.assertEqual("more", self.assert_cures(program, 2, self.all_cures(program, 2, random.Random(108))))
+        # Two numbers on both sides: no close alone is enough.
+        child = [("close", 6), ("copy", 4, 8), ("write", 4, 1), ("write", 8, 1), ("read", 5, None)]
+        program[2] = ("fork", child)
+        self.assertEqual([((), 6, 6), ((), 7, 7)], fewest_closes(program, 2))
+        self.assertEqual("more", self.assert_cures(program, 2, self.all_cures(program, 2, random.Random(109))))
+
+    def test_two_hangs_that_are_cured_by_one_close_each(self):
+        program = [("fork", EITHER), ("fork", EITHER)]
+        self.assertEqual([((0,), 5, 6), ((1,), 5, 6)], fewest_closes(program, 1))
+        self.assertIs(True, is_cure(program, 1, [((0, 0), 2, 4), ((1,), 5, 6)]))
+        self.assertIs(False, is_cure(program, 1, [((0,), 5, 6), ((0, 0), 2, 4)]))
+
     def test_needed_places_beside_others(self):
         # The child of the two has to close what nobody else can, and then one of two closes is enough.
         program = EITHER[:-1] + [("fork", [("wait",)]), ("read", 3, None), ("pipe", 7, 8), ("read", 7, None)]
@@ -468,6 +489,18 @@ class Limits(Cures):
             self.assertIs(True, can_cure(program, 1))
             self.assertIs(True, is_cure(program, 1, dead_places(program)))
             self.assertIs(True, is_cure(program, 1, [((), 5 + many, 6)]))
+
+    def test_needed_places_do_not_count(self):
+        # The last read needs its close, and beside it one of two others is enough.
+        for many, fine in ((0, True), (3, True), (4, True), (5, False)):
+            program = [("pipe", 8, 9)] * many + EITHER + [("pipe", 7, 8), ("read", 7, None)]
+            needed = [((), 7 + many, 8)]
+            self.assertEqual(needed, needed_places(program, 1))
+            self.assertEqual(5 + many, len(dead_places(program)))
+            if fine:
+                self.assertEqual([((), 5 + many, 6)] + needed, fewest_closes(program, 1))
+            else:
+                assert_error(self, TooLarge, {"limit": 8}, fewest_closes, program, 1)
 
     def test_many_other_places_where_the_needed_ones_are_a_cure(self):
         program = [("pipe", 7, 8)] * 40 + OWN

@@ -455,6 +455,11 @@ class Equal(Live):
                 self.assertIs(False, value == system)
                 self.assertIs(True, system != value)
 
+    def test_a_class_of_the_same_name(self):
+        other = type("System", (), {})()
+        self.assertIs(False, System([], 1) == other)
+        self.assertIs(True, other != System([], 1))
+
     def test_subclasses_of_others(self):
         class Own(System):
             pass
